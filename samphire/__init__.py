@@ -1,0 +1,1 @@
+"""Samphire: samples of streams of weighted items that are merged, whoever chooses how."""
