@@ -4,6 +4,9 @@ from math import gcd
 
 from samphire.errors import ZeroDenominator
 
+ZERO = (0, 1)
+ONE = (1, 1)
+
 
 def is_fraction(pair):
     """Return True if the tuple of two integers is a fraction."""
@@ -48,7 +51,7 @@ def less(a, b):
 
 def sum_of(fractions):
     """Return the sum of a list of fractions."""
-    total = (0, 1)
+    total = ZERO
     for fraction in fractions:
         total = plus(total, fraction)
     return total
