@@ -1,6 +1,6 @@
 """Exact calculations with fractions: pairs of integers in lowest terms."""
 
-from math import gcd
+from math import gcd, lcm
 
 from samphire.errors import ZeroDenominator
 
@@ -55,3 +55,16 @@ def sum_of(fractions):
     for fraction in fractions:
         total = plus(total, fraction)
     return total
+
+
+def common_denominator(fractions):
+    """Return the least common multiple of the denominators of a list of fractions."""
+    common = 1
+    for fraction in fractions:
+        common = lcm(common, fraction[1])
+    return common
+
+
+def scaled(fractions, factor):
+    """Return the list of the fractions times a multiple of their denominators, as integers."""
+    return [p * (factor // q) for p, q in fractions]

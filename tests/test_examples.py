@@ -51,6 +51,56 @@ WEIGHTED = '''
 True
 '''
 
+OPTIMAL = '''
+>>> from samphire.dice import Tape
+>>> from samphire.optimal import Optimal, item_chances, threshold
+>>> threshold([(1, 1), (2, 1), (6, 1)], 2), threshold([(1, 1), (2, 1), (6, 1)], 1), threshold([(1, 1)], 1)
+((3, 1), (9, 1), (0, 1))
+>>> things = [("a", "x", 1, 5), ("b", "x", 2, 7), ("c", "y", 6, -1)]
+>>> item_chances(things, 2)
+[(1, 3), (2, 3), (1, 1)]
+>>> first = Optimal.single(things[0], 2).merge(Optimal.single(things[2], 2), Tape([]))
+>>> [second.parts for second in [first.merge(Optimal.single(things[1], 2), Tape([at])) for at in (0, 1, 2)]][:2]
+[[(('b', 'x', 2, 7), (3, 1)), (('c', 'y', 6, -1), (6, 1))], [(('b', 'x', 2, 7), (3, 1)), (('c', 'y', 6, -1), (6, 1))]]
+>>> first.merge(Optimal.single(things[1], 2), Tape([2])).view()
+(2, ((('a', 'x', 1, 5), (3, 1)), (('c', 'y', 6, -1), (6, 1))))
+'''
+
+ESTIMATES = '''
+>>> from samphire.estimates import estimate, known_optimal, known_uniform, ordered, true_sum, unordered
+>>> from samphire.uniform import Uniform
+>>> from samphire.weighted import Weighted
+>>> amounts = {"a": 5, "b": 7, "c": -1, "other": 9}
+>>> true_sum(things, amounts), estimate(Uniform(2, 3, things[:2]), amounts)
+(11, ((18, 1), (3, 1)))
+>>> sample = Weighted(2, 9, [things[2], things[1]])
+>>> ordered(sample, amounts), estimate(sample, amounts), unordered(sample, amounts)
+([(-3, 2), (19, 2)], ((4, 1), (121, 4)), (42, 5))
+>>> estimate(Optimal(2, [(things[0], (3, 1)), (things[2], (6, 1))]), amounts)
+((14, 1), (150, 1))
+>>> known_uniform(things, 2, amounts), known_optimal(things, 2, amounts)
+((26, 1), (149, 2))
+'''
+
+PARCELS = '''
+>>> from samphire.parcels import Node, counted
+>>> from samphire.strategies import law_of_merging, merge_all, reach
+>>> from samphire.uniform import Uniform
+>>> items = [("k" + str(n), "g", 1, n) for n in range(3)]
+>>> parcels = [(("p" + str(n),), Uniform.single(items[n], 1)) for n in range(3)]
+>>> rows = law_of_merging(parcels, {})
+>>> [chance for view, chance in rows]
+[(1, 3), (1, 3), (1, 3)]
+>>> views = [view for view, chance in rows]
+>>> reach(parcels, {views[0]: 3, views[2]: 9})[:2]
+((4, 1), (4, 1))
+>>> left = Node("left", parcels[:2])
+>>> right = Node("right", parcels[2:])
+>>> letter = left.send(0, "right")
+>>> letter[:3], left.out(), right.take(letter), right.take(letter), counted([left, right])
+(('left', 1, 'right'), [1], True, False, [('p0', 'held', 'right'), ('p1', 'held', 'left'), ('p2', 'held', 'right')])
+'''
+
 
 class ExamplesTest(unittest.TestCase):
     def check(self, *texts):
@@ -73,6 +123,12 @@ class ExamplesTest(unittest.TestCase):
 
     def test_uniform_and_weighted(self):
         self.check(UNIFORM, WEIGHTED)
+
+    def test_optimal_and_estimates(self):
+        self.check(OPTIMAL, ESTIMATES)
+
+    def test_parcels_strategies_and_nodes(self):
+        self.check(PARCELS)
 
 
 if __name__ == "__main__":

@@ -158,6 +158,17 @@ class LanguageTest(unittest.TestCase):
             with self.subTest(path.name):
                 self.assertEqual((used & PYTHONS_NAMES) - BUILTINS, set())
 
+    def test_names_of_imports_and_classes_mean_nothing_else(self):
+        for path, tree in trees():
+            kept = {alias.name for node in tree.body if isinstance(node, ast.ImportFrom) for alias in node.names}
+            kept.update(node.name for node in tree.body if isinstance(node, ast.ClassDef))
+            variables = {node.arg for node in ast.walk(tree) if isinstance(node, ast.arg)}
+            for node in ast.walk(tree):
+                if isinstance(node, ast.Name) and not isinstance(node.ctx, ast.Load):
+                    variables.add(node.id)
+            with self.subTest(path.name):
+                self.assertEqual(kept & variables, set())
+
     def test_words(self):
         for path, tree in trees():
             told = [text for text in docstrings(tree) if text]

@@ -4,7 +4,9 @@ import fractions
 import unittest
 
 from samphire.errors import ZeroDenominator
-from samphire.ratios import is_fraction, less, lowest, minus, over, plus, sum_of, times
+from samphire.ratios import (
+    common_denominator, is_fraction, less, lowest, minus, over, plus, scaled, sum_of, times,
+)
 
 LONG = 10 ** 40 + 7
 SMALL = [(p, q) for p in range(-4, 5) for q in range(1, 5) if is_fraction((p, q))]
@@ -88,6 +90,12 @@ class FractionTest(unittest.TestCase):
         self.assertEqual(sum_of([(1, 2), (1, 3), (1, 6)]), (1, 1))
         self.assertEqual(sum_of([(1, 2), (0, 1), (-1, 2)]), (0, 1))
         self.assertEqual(sum_of(GREAT), pair_of(sum([exact(a) for a in GREAT])))
+
+    def test_a_common_denominator(self):
+        for numbers, common in (([], 1), ([(5, 1)], 1), ([(1, 4), (-5, 6), (0, 1)], 12), ([(2, 3), (1, 3)], 3)):
+            self.assertEqual(common_denominator(numbers), common)
+            for factor in (common, 5 * common):
+                self.assertEqual(scaled(numbers, factor), [exact(number) * factor for number in numbers])
 
     def test_the_list_stays_as_it_is(self):
         numbers = [(1, 2), (1, 3)]
