@@ -48,7 +48,7 @@ def situation(parcels):
 
 def choice(parcels, strategy):
     """Return the pair of numbers that a strategy takes for a list of at least two parcels."""
-    pair = strategy.get(situation(parcels), (0, 1))
+    pair = strategy.get(situation(parcels))
     if pair in pairs_of(len(parcels)):
         return pair
     return (0, 1)

@@ -357,6 +357,18 @@ class ReachTest(unittest.TestCase):
             least, greatest, low, high = reach(singles(kind, 6, 2), {})
             self.assertEqual((least, greatest, len(low)), ((0, 1), (0, 1), len(high)))
 
+    def test_situations_of_one_parcel_count_too(self):
+        things = [(f"k{number:02}", "g", 1, 0) for number in range(22)]
+        for size, first, second, many in ((11, 11, 8, 1981), (11, 11, 9, 2036), (14, 9, 5, 2002)):
+            one = Weighted(size, first, things[:first])
+            other = Weighted(size, second, things[first:first + second])
+            parcels = [(("p0",), one), (("p1",), other)]
+            self.assertEqual(len(law_of_merging(parcels, {})), many)
+            if many < 2000:
+                self.assertEqual(len(reach(parcels, {})[2]), 1)
+            else:
+                self.assertRaises(TooLarge, reach, parcels, {})
+
     def test_just_as_many_situations_as_may_be(self):
         # 1 situation of four parcels, 12 of three, 36 of two and 4 of one
         parcels = singles(Uniform, 4, 1)

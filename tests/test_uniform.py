@@ -127,6 +127,11 @@ class MergeTest(unittest.TestCase):
         merged = Uniform(2, 2, [A, B]).merge(Uniform(2, 3, [C, D]), Greedy())
         self.assertEqual(merged.view(), (2, 5, (C, D)))
 
+    def test_items_are_picked_in_the_order_of_their_keys(self):
+        one, other = Uniform(2, 5, [D, A]), Uniform(2, 3, [C, B])
+        self.assertEqual(one.merge(other, Tape([0, 0, 4, 0])).view(), (2, 8, (A, B)))
+        self.assertEqual((one.kept, other.kept), ([D, A], [C, B]))
+
     def test_both_samples_stay(self):
         one, other = Uniform(2, 5, [A, D]), Uniform(2, 3, [B, C])
         merged = one.merge(other, Mixer(5))
