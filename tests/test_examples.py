@@ -82,8 +82,9 @@ ESTIMATES = '''
 ((26, 1), (149, 2))
 '''
 
-PARCELS = '''
+SHIFTING = '''
 >>> from samphire.parcels import Node, counted
+>>> from samphire.shifting import arrived, greatest, least
 >>> from samphire.strategies import law_of_merging, merge_all, reach
 >>> from samphire.uniform import Uniform
 >>> items = [("k" + str(n), "g", 1, n) for n in range(3)]
@@ -99,6 +100,34 @@ PARCELS = '''
 >>> letter = left.send(0, "right")
 >>> letter[:3], left.out(), right.take(letter), right.take(letter), counted([left, right])
 (('left', 1, 'right'), [1], True, False, [('p0', 'held', 'right'), ('p1', 'held', 'left'), ('p2', 'held', 'right')])
+>>> coin = [((0, 1), (1, 2)), ((1, 1), (1, 2))]
+>>> greatest(coin, 1), least(coin, 2)[0], arrived(coin, 1, [(1, (0, 1))])
+(((3, 4), [(1, (0, 1))]), (1, 8), [((0, 1), (1, 4)), ((1, 1), (3, 4))])
+'''
+
+COUPLINGS = '''
+>>> from samphire.couplings import couple, distance, equal_pairs, is_coupling, shared, shows_most
+>>> from samphire.flows import cut_bound, greatest_flow, is_flow
+>>> size, flow, cut = greatest_flow([2, 3], [4, 2], [(0, 0), (1, 0)])
+>>> size, sum(flow), cut, is_flow([2, 3], [4, 2], [(0, 0), (1, 0)], [1, 4])
+(4, 4, [0, 1], False)
+>>> cut_bound([2, 3], [4, 2], [(0, 0), (1, 0)], [0, 1]), cut_bound([2, 3], [4, 2], [(0, 0), (1, 0)], [])
+(4, 5)
+>>> first = [(1, (1, 2)), (2, (1, 2))]
+>>> second = [(1, (1, 3)), (2, (1, 3)), (3, (1, 3))]
+>>> mass, rows, outcomes = couple(first, second, [(1, 1), (2, 2), (2, 3)])
+>>> mass, outcomes, is_coupling(first, second, rows), shared(rows, [(1, 1), (2, 2), (2, 3)])
+((5, 6), [1], True, (5, 6))
+>>> shows_most(first, second, [(1, 1), (2, 2), (2, 3)], [1, 2]), distance(first, second), equal_pairs(first, second)
+((1, 1), (1, 3), [(1, 1), (2, 2)])
+'''
+
+PRICES = '''
+>>> from samphire.prices import best_chances, best_price, price_bound, spread
+>>> best_price([5, 1, 2], 2), best_chances([5, 1, 2], 2)
+((3, 1), [(1, 1), (1, 3), (2, 3)])
+>>> spread([5, 1, 2], best_chances([5, 1, 2], 2)), price_bound([5, 1, 2], 2, (3, 1)), price_bound([5, 1, 2], 2, (1, 1))
+((4, 1), (4, 1), (1, 1))
 '''
 
 
@@ -127,8 +156,14 @@ class ExamplesTest(unittest.TestCase):
     def test_optimal_and_estimates(self):
         self.check(OPTIMAL, ESTIMATES)
 
-    def test_parcels_strategies_and_nodes(self):
-        self.check(PARCELS)
+    def test_parcels_strategies_nodes_and_shifting(self):
+        self.check(SHIFTING)
+
+    def test_flows_and_couplings(self):
+        self.check(COUPLINGS)
+
+    def test_prices(self):
+        self.check(PRICES)
 
 
 if __name__ == "__main__":
