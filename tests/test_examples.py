@@ -6,6 +6,22 @@ import unittest
 
 README = pathlib.Path(__file__).resolve().parent.parent / "README.md"
 
+CONDITIONS = r'''
+>>> from samphire.conditions import held, parse_condition, write_condition
+>>> from samphire.reader import read_items
+>>> from samphire.things import check_items
+>>> rows = read_items("k1 red 3 -5\nk2 blue 10 7\n")
+>>> rows, check_items(rows + [("k1", "red", 0, 1)])
+([('k1', 'red', 3, -5), ('k2', 'blue', 10, 7)], (2, 'weight'))
+>>> condition = parse_condition("weight>5 or not (group red and amount < -2)")
+>>> condition
+('or', ('weight', '>', 5), ('not', ('and', ('group', 'red'), ('amount', '<', -2))))
+>>> write_condition(condition), [held(condition, item) for item in rows]
+('weight > 5 or not (group red and amount < -2)', [False, True])
+>>> write_condition(("and", ("or", ("all",), ("key", "or")), ("and", ("all",), ("all",))))
+'(all or key or) and (all and all)'
+'''
+
 LAWS = '''
 >>> from samphire.dice import Mixer, Tape
 >>> from samphire.explore import Explorer
@@ -130,6 +146,44 @@ PRICES = '''
 ((4, 1), (4, 1), (1, 1))
 '''
 
+STRATA = '''
+>>> from samphire.strata import deal, deal_bound
+>>> deal([(12, 1), (3, 1)], [5, 5], 4), deal_bound([(12, 1), (3, 1)], [5, 5], 4, (2, 1)), deal_bound([(12, 1), (3, 1)], [5, 5], 4, (1, 1))
+(([3, 1], (2, 1)), (7, 1), (13, 2))
+'''
+
+STORE = '''
+>>> from samphire.conditions import parse_condition
+>>> from samphire.dice import Tape
+>>> from samphire.store import Plan, Store, differences
+>>> plan = Plan({"red": ("uniform", 2)}, ("weighted", 1))
+>>> store = Store(plan, ["east"])
+>>> for item in [("k1", "red", 3, -5), ("k2", "red", 10, 7), ("k3", "blue", 4, 1)]:
+...     store.put(item, Tape([]))
+>>> plan.places(), store.exact()
+(['red', None], [('red', 'number', 2), (None, 'weight', 4)])
+>>> store.answer(parse_condition("amount > 0"), "number"), store.answer(parse_condition("all"), "amount")
+(((2, 1), (0, 1)), ((3, 1), (0, 1)))
+>>> other = Store(plan, ["west"])
+>>> other.put(("k4", "red", 1, 1), Tape([]))
+>>> both = store.merged(other, Tape([]))
+>>> both.parts, both.exact(), differences(store, both)
+(['east', 'west'], [('red', 'number', 3), (None, 'weight', 4)], ['red'])
+'''
+
+DESK = '''
+>>> from samphire.desk import Desk, answers_of
+>>> desk = Desk()
+>>> [desk.obey(line) for line in ["node east", "rule red uniform 2", "others weighted 1", "node east", "put east k1 red 3 -5", "put east k2 red 10 7"]]
+[['refused plan'], ['rules 1'], ['plan 2'], ['nodes 1'], ['kept 1'], ['kept 2']]
+>>> desk.obey("ask east number amount > 0"), desk.obey("exact east"), desk.obey("ask east weight and")
+(['estimate 1', 'variance 0'], ['exact red number 2', 'exact others weight 0'], ['refused text 1 expected'])
+>>> desk.obey("node west"), desk.obey("put west k4 red 1 1"), desk.obey("merge east west"), desk.obey("nodes"), desk.obey("exact east")[0]
+(['nodes 2'], ['kept 1'], ['kept 2'], ['east east west'], 'exact red number 3')
+>>> desk.obey("undo"), desk.obey("differ east west"), answers_of(["price 2 5 1 2", "tape", "seed -1"])
+(['undone merge east west'], ['differ red'], [['price 3', 'spread 4', 'bound 4'], ['refused count'], ['refused number']])
+'''
+
 
 class ExamplesTest(unittest.TestCase):
     def check(self, *texts):
@@ -147,6 +201,9 @@ class ExamplesTest(unittest.TestCase):
     def test_readme(self):
         self.check(README.read_text("utf-8").replace("```", ""))
 
+    def test_conditions(self):
+        self.check(CONDITIONS)
+
     def test_laws(self):
         self.check(LAWS)
 
@@ -162,8 +219,14 @@ class ExamplesTest(unittest.TestCase):
     def test_flows_and_couplings(self):
         self.check(COUPLINGS)
 
-    def test_prices(self):
-        self.check(PRICES)
+    def test_prices_and_strata(self):
+        self.check(PRICES, STRATA)
+
+    def test_store(self):
+        self.check(STORE)
+
+    def test_desk(self):
+        self.check(DESK)
 
 
 if __name__ == "__main__":
