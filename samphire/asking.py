@@ -9,7 +9,7 @@ from samphire.errors import TextError, TooLarge
 from samphire.prices import best_chances, best_price, price_bound, spread
 from samphire.report import fraction_word, place_word
 from samphire.samples import MOST_SIZE
-from samphire.state import Refused, require_plan, stores_of
+from samphire.state import Refused, require_plan, store_of, stores_of
 from samphire.store import WHATS, differences
 from samphire.things import MOST_WEIGHT
 from samphire.words import integer_within
@@ -27,7 +27,7 @@ def condition_of(text):
 
 def tell_answer(state, words):
     """Answer `ask NODE WHAT` and a condition."""
-    store = stores_of(state, [words[1]])[0]
+    store = store_of(state, words[1])
     what = words[2]
     if what not in WHATS:
         raise Refused("what")
@@ -37,13 +37,13 @@ def tell_answer(state, words):
 
 def tell_exact(state, words):
     """Answer `exact NODE`."""
-    store = stores_of(state, [words[1]])[0]
+    store = store_of(state, words[1])
     return [f"exact {place_word(place)} {word} {number}" for place, word, number in store.exact()]
 
 
 def tell_kept(state, words):
     """Answer `kept NODE`."""
-    store = stores_of(state, [words[1]])[0]
+    store = store_of(state, words[1])
     lines = []
     for place in store.plan.places():
         for key, group, weight, amount in store.sample(place).kept:

@@ -8,7 +8,7 @@ from samphire.dice import Mixer, Tape
 from samphire.errors import SharedKey, SharedPart
 from samphire.reader import item_of, word_fault
 from samphire.report import integer_of
-from samphire.state import Refused, require_plan, stores_of
+from samphire.state import Refused, require_plan, store_of, stores_of
 from samphire.store import MOST_GROUPS, Plan, Store, check_plan
 from samphire.things import is_name
 
@@ -87,7 +87,7 @@ def number_kept(store):
 
 def put_item(state, words):
     """Obey `put NODE KEY GROUP WEIGHT AMOUNT`."""
-    store = stores_of(state, [words[1]])[0]
+    store = store_of(state, words[1])
     fault = word_fault(words[2:])
     if fault is not None:
         raise Refused(fault[1])

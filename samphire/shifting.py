@@ -6,7 +6,7 @@ from samphire.ratios import ONE, less, minus, sum_of, times
 
 def arrived(rows, retries, lost):
     """Return the law of what arrives by a table of losses."""
-    table = {(left, number): True for left, number in lost}
+    table = {pair: True for pair in lost}
     found = list(rows)
     for left in range(1, retries + 1):
         kept = [(number, chance) for number, chance in rows if (left, number) not in table]

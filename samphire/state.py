@@ -35,3 +35,8 @@ def stores_of(state, names):
         if name not in state.stores:
             raise Refused("node")
     return [state.stores[name] for name in names]
+
+
+def store_of(state, name):
+    """Return the store of the node with this name. Raises Refused."""
+    return stores_of(state, [name])[0]

@@ -1,6 +1,7 @@
 """Promises 70 to 74: desks, their lines, refusals and journals."""
 
 import unittest
+from unittest import mock
 
 from samphire.conditions import parse_condition
 from samphire.desk import Desk, answers_of
@@ -195,6 +196,10 @@ class DiceTest(Case):
         setup = ["others weighted 3", "node east"]
         told = desk_of(setup + ["tape 0"] + self.LINES).obey("kept east")
         self.assertEqual(desk_of(setup + self.LINES).obey("kept east"), told)
+
+    def test_as_many_numbers_as_a_line_has(self):
+        line = "tape" + " 1" * 148
+        self.assertEqual((len(line), Desk().obey(line)), (300, ["dice"]))
 
     def test_number(self):
         for word in ("-1", "x", "01", "+1", "1000000000", "1.5", "-", "-0", "-999999999"):
@@ -405,6 +410,13 @@ class AskTest(Case):
         self.refused("ask east weight amount > 1000001", "text 10 range")
         self.refused("ask east number " + "(" * 21 + "all" + ")" * 21, "text 21 deep")
         self.assertEqual(self.desk.obey("ask east number " + "(" * 20 + "all" + ")" * 20), ["estimate 2", "variance 0"])
+
+    def test_a_condition_that_is_too_large(self):
+        # A line is shorter than the longest condition, so the limit is lowered here.
+        with mock.patch("samphire.conditions.MOST_CHARACTERS", 5):
+            self.refused("ask east number all   ", "large")
+            self.refused("ask east numbers all   ", "what")
+            self.assertEqual(self.desk.obey("ask east number all  "), ["estimate 2", "variance 0"])
 
 
 class OtherQuestionsTest(Case):
